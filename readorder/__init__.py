@@ -1,0 +1,1 @@
+"""Readorder: what unordered read logs show about a lazy program."""

@@ -1,0 +1,92 @@
+"""Logs: which cells a run has read and which values it has found there."""
+
+LONGEST_CELL = 8
+LARGEST_VALUE = 10 ** 9
+MOST_PAIRS = 60
+MOST_LOGS = 300
+
+
+def is_cell(thing):
+    """Whether any object is a cell."""
+    if not isinstance(thing, str) or not 1 <= len(thing) <= LONGEST_CELL:
+        return False
+    return all(["a" <= sign <= "z" for sign in thing])
+
+
+def is_value(thing):
+    """Whether any object is a value."""
+    # For Python a bool is an int, but it is no value.
+    if not isinstance(thing, int) or isinstance(thing, bool):
+        return False
+    return 0 <= thing <= LARGEST_VALUE
+
+
+def is_ascending(items):
+    """Whether each item of a list or tuple is less than the next one."""
+    return all([item < after for item, after in zip(items, items[1:])])
+
+
+def is_pair(thing):
+    """Whether any object is a (cell, value) pair."""
+    if not isinstance(thing, tuple) or len(thing) != 2:
+        return False
+    return is_cell(thing[0]) and is_value(thing[1])
+
+
+def cells_of(log):
+    """The cells of one log, in its order."""
+    return tuple([cell for cell, value in log])
+
+
+def is_log(thing):
+    """Whether any object is a log of at most 60 pairs."""
+    if not isinstance(thing, tuple) or len(thing) > MOST_PAIRS:
+        return False
+    if not all([is_pair(pair) for pair in thing]):
+        return False
+    # Ascending cells mean both: ascending pairs, and no two pairs of one cell.
+    return is_ascending(cells_of(thing))
+
+
+def is_logs(thing):
+    """Whether any object is logs, at most 300, of at most 60 pairs each."""
+    if not isinstance(thing, tuple) or len(thing) > MOST_LOGS:
+        return False
+    # Only logs can be compared with each other without an error.
+    return all([is_log(log) for log in thing]) and is_ascending(thing)
+
+
+def value_in(log, cell):
+    """The value of the cell in the log, None if the log does not have it."""
+    return dict(log).get(cell)
+
+
+def cells_in(logs):
+    """The ascending tuple of all cells of the logs."""
+    return tuple(sorted({cell for log in logs for cell in cells_of(log)}))
+
+
+def shared_cells(logs):
+    """The ascending tuple of the cells that every log has; () for no logs."""
+    counts = {}
+    for log in logs:
+        for cell in cells_of(log):
+            counts[cell] = counts.get(cell, 0) + 1
+    return tuple(sorted([cell for cell, many in counts.items() if many == len(logs)]))
+
+
+def agrees(log, known):
+    """Whether the log has each pair of known."""
+    values = dict(log)
+    return all([values.get(cell) == value for cell, value in known])
+
+
+def agreeing(logs, known):
+    """The logs that agree with all pairs of known, a log."""
+    return tuple([log for log in logs if agrees(log, known)])
+
+
+def differing(one, other):
+    """The ascending tuple of the cells that two logs have with different values."""
+    values = dict(other)
+    return tuple([cell for cell, value in one if values.get(cell, value) != value])

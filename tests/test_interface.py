@@ -1,0 +1,78 @@
+"""The interface: where its names are defined, and how the package is written."""
+
+import ast
+import unittest
+from importlib import import_module
+from inspect import signature
+from pathlib import Path
+
+import readorder
+
+FOLDER = Path(readorder.__file__).parent
+FUNCTIONS = {
+    "logs": {
+        "is_log": ["thing"],
+        "is_logs": ["thing"],
+        "value_in": ["log", "cell"],
+        "cells_in": ["logs"],
+        "shared_cells": ["logs"],
+        "agreeing": ["logs", "known"],
+        "differing": ["one", "other"],
+    },
+    "readers": {
+        "is_reader": ["thing"],
+        "logs_of": ["reader"],
+        "is_reader_of": ["logs", "thing"],
+        "follow": ["reader", "known"],
+    },
+}
+
+
+def sources():
+    """The (name, text) pairs of all files of the package."""
+    return [(path.name, path.read_text(encoding="utf-8")) for path in sorted(FOLDER.glob("*.py"))]
+
+
+class InterfaceTest(unittest.TestCase):
+    def test_functions_and_their_arguments(self):
+        for module_name, functions in FUNCTIONS.items():
+            module = import_module(f"readorder.{module_name}")
+            for name, arguments in functions.items():
+                with self.subTest(name=name):
+                    function = getattr(module, name)
+                    self.assertEqual(function.__module__, module.__name__)
+                    self.assertEqual(list(signature(function).parameters), arguments)
+
+
+class WritingTest(unittest.TestCase):
+    def test_only_plain_python_files(self):
+        names = [path.name for path in FOLDER.iterdir() if path.name != "__pycache__"]
+        self.assertIn("__init__.py", names)
+        for name in names:
+            self.assertRegex(name, "^[a-z_][a-z0-9_]*[.]py$")
+
+    def test_sizes_and_signs(self):
+        for name, text in sources():
+            with self.subTest(name=name):
+                self.assertLessEqual(len(text.splitlines()), 399)
+                self.assertLessEqual(max(len(line) for line in text.splitlines()), 120)
+                self.assertLessEqual(set(text), {chr(number) for number in range(32, 127)} | {"\n"})
+
+    def test_short_functions(self):
+        for name, text in sources():
+            for node in ast.walk(ast.parse(text)):
+                if isinstance(node, ast.FunctionDef):
+                    with self.subTest(name=name, function=node.name):
+                        self.assertLessEqual(node.end_lineno - node.lineno + 1, 40)
+
+    def test_imports_from_the_package_only(self):
+        for name, text in sources():
+            for node in ast.walk(ast.parse(text)):
+                with self.subTest(name=name):
+                    self.assertNotIsInstance(node, ast.Import)
+                    if isinstance(node, ast.ImportFrom):
+                        self.assertTrue(node.module.startswith("readorder."), node.module)
+
+
+if __name__ == "__main__":
+    unittest.main()
