@@ -38,14 +38,17 @@ def cells_of(log):
     return tuple([cell for cell, value in log])
 
 
-def is_log(thing):
-    """Whether any object is a log of at most 60 pairs."""
-    if not isinstance(thing, tuple) or len(thing) > MOST_PAIRS:
-        return False
-    if not all([is_pair(pair) for pair in thing]):
+def is_listing(thing):
+    """Whether any object is an ascending tuple of pairs, no two of one cell."""
+    if not isinstance(thing, tuple) or not all([is_pair(pair) for pair in thing]):
         return False
     # Ascending cells mean both: ascending pairs, and no two pairs of one cell.
     return is_ascending(cells_of(thing))
+
+
+def is_log(thing):
+    """Whether any object is a log of at most 60 pairs."""
+    return is_listing(thing) and len(thing) <= MOST_PAIRS
 
 
 def is_logs(thing):
@@ -90,3 +93,14 @@ def differing(one, other):
     """The ascending tuple of the cells that two logs have with different values."""
     values = dict(other)
     return tuple([cell for cell, value in one if values.get(cell, value) != value])
+
+
+def is_one_of(logs, thing):
+    """Whether any object is one of the logs."""
+    # For Python True equals 1, but a log with True in it is none of the logs.
+    return thing in logs and not any([isinstance(value, bool) for cell, value in thing])
+
+
+def are_among(cells, thing):
+    """Whether any object is a tuple of cells that are among these, a tuple, too."""
+    return isinstance(thing, tuple) and all([cell in cells for cell in thing])

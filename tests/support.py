@@ -1,9 +1,14 @@
 """What several tests use."""
 
 from copy import deepcopy
+from inspect import Parameter, signature
 
 LOGS = ((("a", 0), ("b", 1)), (("a", 0), ("b", 2), ("c", 5)), (("a", 1), ("c", 2)))
 READER = ("a", ((0, ("b", ((1, ()), (2, ("c", ((5, ()),)))))), (1, ("c", ((2, ()),)))))
+
+PAIR = ((("a", 0), ("b", 1)), (("a", 1), ("b", 1), ("c", 2)))
+TWO = ((("a", 0), ("b", 0)), (("a", 1), ("b", 1)))
+CYCLE = ((("a", 0), ("b", 1)), (("a", 1), ("c", 0)), (("b", 0), ("c", 1)))
 
 LETTERS = "abcdefghijklmnopqrstuvwxyz"
 
@@ -74,6 +79,13 @@ def same(one, other):
     return repr(one) == repr(other)
 
 
+def passed(function, arguments):
+    """The arguments by position, and those that are taken by name only."""
+    parameters = signature(function).parameters
+    named = {name: value for name, value in arguments.items() if parameters[name].kind == Parameter.KEYWORD_ONLY}
+    return [value for name, value in arguments.items() if name not in named], named
+
+
 def call(case, function, **arguments):
     """The result of a call, by name and by position, again and again the same.
 
@@ -81,7 +93,69 @@ def call(case, function, **arguments):
     """
     before = deepcopy(arguments)
     result = function(**arguments)
-    case.assertTrue(same(function(*arguments.values()), result))
+    positional, named = passed(function, arguments)
+    case.assertTrue(same(function(*positional, **named), result))
     case.assertTrue(same(function(**arguments), result))
     case.assertTrue(same(arguments, before), "an argument was changed")
     return result
+
+
+def refused(case, error_class, function, **arguments):
+    """The error of a call, by name and by position, again and again the same.
+
+    Fails if a call raises another one or changes an argument.
+    """
+    before = deepcopy(arguments)
+    with case.assertRaises(error_class) as caught:
+        function(**arguments)
+    positional, named = passed(function, arguments)
+    with case.assertRaises(error_class) as again:
+        function(*positional, **named)
+    case.assertIs(type(caught.exception), error_class)
+    case.assertIs(type(again.exception), error_class)
+    case.assertTrue(same(vars(caught.exception), vars(again.exception)))
+    case.assertTrue(same(arguments, before), "an argument was changed")
+    return caught.exception
+
+
+def changed(thing):
+    """Objects that are made from a tuple, an integer or a string by one change."""
+    yield from (None, {}, [], {"a": 0}, (thing,), [thing], str(thing))
+    if type(thing) is int:
+        yield from (thing + 1, bool(thing))
+    if type(thing) is str:
+        yield from (thing + "a", "q", 0, True)
+    if type(thing) is tuple:
+        yield from ((), list(thing), thing[::-1], thing + thing[-1:], thing + (None,), dict(enumerate(thing)))
+        for at, part in enumerate(thing):
+            yield thing[:at] + thing[at + 1:]
+            yield thing[:at] + (part, part) + thing[at + 1:]
+            yield thing[:at] + thing[at + 1:at + 2] + (part,) + thing[at + 2:]
+            for other in changed(part):
+                yield thing[:at] + (other,) + thing[at + 1:]
+
+
+def lacking_one(many):
+    """So many logs; each has all cells but one. They are a minimal stuck group."""
+    cells = [name(number) for number in range(many)]
+    return tuple(sorted(
+        tuple((cell, place) for cell in cells if cell != missing) for place, missing in enumerate(cells)
+    ))
+
+
+def chain_logs(long, wide):
+    """Logs of a program that reads cell after cell, until one of them is not 0."""
+    return tuple(sorted(
+        tuple((name(at), 0) for at in range(end)) + ((name(end), value),)
+        for end in range(long) for value in range(1, wide + 1)
+    ))
+
+
+def flat_logs(many, pairs):
+    """So many logs of the same cells; each cell tells all logs apart."""
+    return tuple(tuple((name(number), value) for number in range(pairs)) for value in range(many))
+
+
+# 300 logs and 60 cells each: one cell after the other, and all cells at once.
+LONGEST_CHAIN = chain_logs(60, 5)
+WIDEST = flat_logs(300, 60)

@@ -51,7 +51,9 @@ class ExamplesTest(unittest.TestCase):
 
     def test_all_groups_are_there(self):
         counts = {path.name: len(examples_in(path.read_text())) for path in FOLDER.glob("*.txt")}
-        self.assertEqual(counts, {"1_logs.txt": 12, "2_readers.txt": 7})
+        self.assertEqual(counts, {
+            "1_logs.txt": 12, "2_readers.txt": 7, "3_groups.txt": 10, "4_orders.txt": 14, "5_certain.txt": 7,
+        })
 
 
 if __name__ == "__main__":
