@@ -2,16 +2,13 @@
 
 from readorder.errors import BadSnapshot
 from readorder.groups import newly_shared, refuse_unreadable
-from readorder.logs import cells_in, is_listing
+from readorder.logs import has_cells, is_listing
 from readorder.runs import run_without
 
 
 def is_snapshot(logs, thing):
     """Whether any object is a snapshot of the logs."""
-    if not is_listing(thing):
-        return False
-    values = dict(thing)
-    return all([cell in values for cell in cells_in(logs)])
+    return is_listing(thing) and has_cells(logs, thing)
 
 
 def refuse_snapshot(logs, snapshot):

@@ -3,9 +3,10 @@
 from readorder.building import built_reader
 from readorder.errors import BadCell, BadOrder, OrdersClash
 from readorder.groups import refuse_unreadable
-from readorder.logs import agreeing, are_among, cells_of, is_ascending, is_one_of
+from readorder.logs import agreeing, are_among, cells_of, is_ascending
 from readorder.orders import is_whole_order, refuse_other
 from readorder.runs import run_without
+from readorder.witnesses import are_witnesses, witnesses_of
 
 
 def refuse_cells(logs, log, first, later):
@@ -39,26 +40,13 @@ def to_witness(log, closed, first):
     return [cell for cell in cells_of(log) if cell != first and cell not in closed]
 
 
-def lacking(logs, cell):
-    """The logs that do not have the cell."""
-    return [log for log in logs if cell not in cells_of(log)]
-
-
 def evidence_of(logs, log, first, later):
     """Evidence that first is always read ahead of later, None if it is not."""
     refuse_cells(logs, log, first, later)
     closed = tuple(sorted(run_without(logs, dict(log), (first,)).done))
     if later in closed:
         return None
-    group = staying(logs, log, closed)
-    return closed, tuple([(cell, lacking(group, cell)[0]) for cell in to_witness(log, closed, first)])
-
-
-def is_witness(group, cell, thing):
-    """Whether any object is the cell and one of the logs of the group without it."""
-    if not isinstance(thing, tuple) or len(thing) != 2:
-        return False
-    return thing[0] == cell and is_one_of(lacking(group, cell), thing[1])
+    return closed, witnesses_of(staying(logs, log, closed), to_witness(log, closed, first))
 
 
 def shows_precedence(logs, log, first, later, thing):
@@ -71,11 +59,7 @@ def shows_precedence(logs, log, first, later, thing):
         return False
     if first in closed or later in closed:
         return False
-    cells = to_witness(log, closed, first)
-    if not isinstance(witnesses, tuple) or len(witnesses) != len(cells):
-        return False
-    group = staying(logs, log, closed)
-    return all([is_witness(group, cell, witness) for cell, witness in zip(cells, witnesses)])
+    return are_witnesses(staying(logs, log, closed), to_witness(log, closed, first), witnesses)
 
 
 def refuse_orders(logs, orders):

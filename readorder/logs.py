@@ -13,12 +13,15 @@ def is_cell(thing):
     return all(["a" <= sign <= "z" for sign in thing])
 
 
+def is_integer(thing):
+    """Whether any object is an integer."""
+    # For Python a bool is an int, but it is no integer here.
+    return isinstance(thing, int) and not isinstance(thing, bool)
+
+
 def is_value(thing):
     """Whether any object is a value."""
-    # For Python a bool is an int, but it is no value.
-    if not isinstance(thing, int) or isinstance(thing, bool):
-        return False
-    return 0 <= thing <= LARGEST_VALUE
+    return is_integer(thing) and 0 <= thing <= LARGEST_VALUE
 
 
 def is_ascending(items):
@@ -31,6 +34,13 @@ def is_pair(thing):
     if not isinstance(thing, tuple) or len(thing) != 2:
         return False
     return is_cell(thing[0]) and is_value(thing[1])
+
+
+def are_pairs(thing):
+    """Whether any object is a tuple of (string, integer) pairs, whatever their bounds."""
+    if not isinstance(thing, tuple) or not all([isinstance(pair, tuple) and len(pair) == 2 for pair in thing]):
+        return False
+    return all([isinstance(cell, str) and is_integer(value) for cell, value in thing])
 
 
 def cells_of(log):
@@ -67,6 +77,12 @@ def value_in(log, cell):
 def cells_in(logs):
     """The ascending tuple of all cells of the logs."""
     return tuple(sorted({cell for log in logs for cell in cells_of(log)}))
+
+
+def has_cells(logs, listing):
+    """Whether (cell, value) pairs have every cell of the logs."""
+    values = dict(listing)
+    return all([cell in values for cell in cells_in(logs)])
 
 
 def shared_cells(logs):

@@ -123,6 +123,15 @@ def path_on(reader, snapshot):
     return cells
 
 
+def run_on(reader, snapshot):
+    """How the reader's run on the snapshot ends, and the cells that it reads."""
+    values = values_of(snapshot)
+    below = reader
+    while below not in ((), None):
+        below = dict(below[1]).get(values[below[0]])
+    return "open" if below is None else "done", path_on(reader, snapshot)
+
+
 def random_reader(random, cells, depth, values):
     """A reader of some of the cells."""
     if depth == 0 or not cells or random.random() < 0.15:

@@ -52,7 +52,8 @@ class ExamplesTest(unittest.TestCase):
     def test_all_groups_are_there(self):
         counts = {path.name: len(examples_in(path.read_text())) for path in FOLDER.glob("*.txt")}
         self.assertEqual(counts, {
-            "1_logs.txt": 12, "2_readers.txt": 7, "3_groups.txt": 10, "4_orders.txt": 14, "5_certain.txt": 7,
+            "01_logs.txt": 12, "02_readers.txt": 7, "03_groups.txt": 10, "04_orders.txt": 14, "05_certain.txt": 12,
+            "06_adding.txt": 3, "07_swaps.txt": 7, "08_counting.txt": 5,
         })
 
 

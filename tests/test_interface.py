@@ -55,7 +55,32 @@ FUNCTIONS = {
         "certain_reads": ["logs", "snapshot"],
         "possible_reads": ["logs", "snapshot"],
     },
+    "avoiding": {
+        "avoiding": ["logs", "snapshot", "cell"],
+        "shows_avoided": ["logs", "snapshot", "cell", "thing"],
+        "evidence_certain": ["logs", "snapshot", "cell"],
+        "shows_certain": ["logs", "snapshot", "cell", "thing"],
+    },
+    "adding": {
+        "can_add": ["logs", "log"],
+        "against": ["logs", "log"],
+    },
+    "swaps": {
+        "node_at": ["reader", "place"],
+        "can_swap": ["reader", "place"],
+        "swapped": ["reader", "place"],
+        "after_swaps": ["reader", "swaps"],
+        "swaps_between": ["one", "other"],
+        "shows_swaps": ["one", "other", "thing"],
+    },
+    "counting": {
+        "count_readers": ["logs"],
+        "covered": ["logs", "sizes"],
+        "is_complete": ["logs", "sizes"],
+    },
 }
+# What LANGUAGE.md (L2, "The library") allows beside the package.
+LIBRARY = {"heapq", "math", "itertools"}
 
 
 def taken(function):
@@ -106,7 +131,7 @@ class WritingTest(unittest.TestCase):
             for node in ast.walk(ast.parse(text)):
                 with self.subTest(name=name):
                     self.assertNotIsInstance(node, ast.Import)
-                    if isinstance(node, ast.ImportFrom):
+                    if isinstance(node, ast.ImportFrom) and node.module not in LIBRARY:
                         self.assertTrue(node.module.startswith("readorder."), node.module)
 
 
