@@ -169,7 +169,8 @@ class ShowsAvoidedTest(unittest.TestCase):
         self.assertEqual(runs_without(logs, snapshot, "aa"), {("open", path) for path in good})
         bad = (
             (), ("zz",), ("ab",), ("ab", "ac"), ("ab", "ab", "zz"), ("ab", "zz", "zz"), ("ab", "zz", "ac"), ("aa",),
-            ("zz", "ab"), ("ab", "aa", "zz"), ("ab", "q", "zz"), ["ab", "zz"], ("ab", None, "zz"), ("ab", ("zz",)), "zz",
+            ("zz", "ab"), ("ab", "aa", "zz"), ("ab", "q", "zz"), ["ab", "zz"], ("ab", None, "zz"), ("ab", ("zz",)),
+            "zz",
             ("ab", "zz", None), (("ab", "zz"),), {"ab": 0, "zz": 5}, None,
         )
         for path in good + bad:
@@ -240,13 +241,15 @@ class ShowsCertainTest(unittest.TestCase):
         logs, snapshot = LOGS, (("a", 0), ("b", 7), ("c", 2))
         good = (("c", LOGS[0]),)
         self.assertIs(shows_certain(logs, snapshot, "b", (("a",), good)), True)
-        for closed in ((), ("b",), ("a", "b"), ("a", "a"), ("a", "c"), ("c", "a"), ["a"], ("q",), (None,), "a", None, True):
+        for closed in ((), ("b",), ("a", "b"), ("a", "a"), ("a", "c"), ("c", "a"), ["a"], ("q",), (None,), "a", None,
+                True):
             for witnesses in (good, (), (("a", LOGS[0]), ("c", LOGS[0]))):
                 self.assertIs(shows_certain(logs, snapshot, "b", (closed, witnesses)), False)
 
     def test_witnesses(self):
         logs, snapshot = LOGS, (("a", 0), ("b", 7), ("c", 2))
-        for bad in ((), (("c", LOGS[1]),), (("c", LOGS[2]),), (("b", LOGS[0]),), (("c", LOGS[0]),) * 2, (["c", LOGS[0]],),
+        for bad in ((), (("c", LOGS[1]),), (("c", LOGS[2]),), (("b", LOGS[0]),), (("c", LOGS[0]),) * 2,
+                (["c", LOGS[0]],),
                     (("c", list(LOGS[0])),), (("c", LOGS[0], None),), (("c",),), (("c", (("a", False), ("b", 1))),),
                     (("c", (("a", 0), ("b", True))),), (("c", (("a", 0),)),), (("c", None),), {"c": LOGS[0]},
                     [("c", LOGS[0])], None, (("c", (("a", 0), ("b", 9))),), (("c", ()),)):

@@ -142,7 +142,8 @@ class CoveredTest(unittest.TestCase):
     def test_all_assignments(self):
         asked = 0
         for logs in FAMILIES:
-            for sizes in (sizes_of(logs), sizes_of(logs, ("aaa", "z")), sizes_of(logs, (), 3), sizes_of(logs, ("q",), 2)):
+            for sizes in (sizes_of(logs), sizes_of(logs, ("aaa", "z")), sizes_of(logs, (), 3),
+                    sizes_of(logs, ("q",), 2)):
                 if len(list(assignments_of(sizes))) <= 400:
                     counts = [len(covering(logs, assignment)) for assignment in assignments_of(sizes)]
                     with self.subTest(logs=logs, sizes=sizes):
@@ -250,8 +251,10 @@ class BadSizesTest(unittest.TestCase):
         for thing, wrong in (
             ((("a", 1), ("b", 1)), False), ((("a", 0), ("b", 1)), True), ((("a", 10 ** 9), ("b", 1)), False),
             ((("a", 10 ** 9 + 1), ("b", 1)), True), ((("a", -1), ("b", 1)), True), ((("a", True), ("b", 1)), True),
-            ((("b", 1), ("a", 1)), True), ((("a", 1), ("a", 2), ("b", 1)), True), ((("a", 1), ("a", 1), ("b", 1)), True),
-            ((("a", 1),), True), ((), True), ((("a", 1), ("b", 1), ("abcdefghi", 1)), True), ((("A", 1), ("a", 1)), True),
+            ((("b", 1), ("a", 1)), True), ((("a", 1), ("a", 2), ("b", 1)), True),
+            ((("a", 1), ("a", 1), ("b", 1)), True),
+            ((("a", 1),), True), ((), True), ((("a", 1), ("b", 1), ("abcdefghi", 1)), True),
+            ((("A", 1), ("a", 1)), True),
             ((("a", 1), ("abcdefgh", 1), ("b", 1)), False), ([("a", 1), ("b", 1)], True), ((["a", 1], ("b", 1)), True),
             ({"a": 1, "b": 1}, True), (None, True), ("ab", True), (((("a", 1), ("b", 1)),), True), (2, True),
             ((("a", 1, 1), ("b", 1)), True), ((("a",), ("b", 1)), True), ((("a", "1"), ("b", 1)), True),

@@ -53,7 +53,8 @@ class ExamplesTest(unittest.TestCase):
         counts = {path.name: len(examples_in(path.read_text())) for path in FOLDER.glob("*.txt")}
         self.assertEqual(counts, {
             "01_logs.txt": 12, "02_readers.txt": 7, "03_groups.txt": 10, "04_orders.txt": 14, "05_certain.txt": 12,
-            "06_adding.txt": 3, "07_swaps.txt": 7, "08_counting.txt": 5,
+            "06_adding.txt": 3, "07_swaps.txt": 7, "08_counting.txt": 5, "09_joining.txt": 6, "10_recorder.txt": 7,
+            "11_texts.txt": 5, "12_desk.txt": 5,
         })
 
 

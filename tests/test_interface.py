@@ -78,6 +78,41 @@ FUNCTIONS = {
         "covered": ["logs", "sizes"],
         "is_complete": ["logs", "sizes"],
     },
+    "joining": {
+        "joined": ["one", "other"],
+        "join_source": ["one", "other", "log"],
+        "inlined": ["outer", "cell", "results"],
+        "inline_source": ["outer", "cell", "results", "log"],
+    },
+    "texts": {
+        "show_log": ["log"],
+        "show_logs": ["logs"],
+        "show_reader": ["reader"],
+        "parse_log": ["text"],
+        "parse_logs": ["text"],
+        "parse_reader": ["text"],
+    },
+}
+# The class of each module, with its methods.
+CLASSES = {
+    "recorder": ("Recorder", {
+        "__init__": ["self", "logs"],
+        "add": ["self", "log"],
+        "add_all": ["self", "logs", "*keep"],
+        "drop": ["self", "log"],
+        "undo": ["self"],
+        "actions": ["self"],
+        "logs": ["self"],
+        "reader": ["self", "*prefer"],
+        "trial": ["self", "action"],
+        "clone": ["self"],
+        "__len__": ["self"],
+        "__eq__": ["self", "other"],
+    }),
+    "desk": ("Desk", {
+        "__init__": ["self"],
+        "say": ["self", "line"],
+    }),
 }
 # What LANGUAGE.md (L2, "The library") allows beside the package.
 LIBRARY = {"heapq", "math", "itertools"}
@@ -103,6 +138,17 @@ class InterfaceTest(unittest.TestCase):
                     function = getattr(module, name)
                     self.assertEqual(function.__module__, module.__name__)
                     self.assertEqual(taken(function), arguments)
+
+    def test_classes_and_their_methods(self):
+        for module_name, (name, methods) in CLASSES.items():
+            module = import_module(f"readorder.{module_name}")
+            found = getattr(module, name)
+            self.assertEqual(found.__module__, module.__name__)
+            for method, arguments in methods.items():
+                with self.subTest(name=name, method=method):
+                    # Defined in the class itself, not only in a base class.
+                    self.assertIn(method, vars(found))
+                    self.assertEqual(taken(vars(found)[method]), arguments)
 
 
 class WritingTest(unittest.TestCase):

@@ -284,7 +284,8 @@ class ShowsSwapsTest(unittest.TestCase):
     def test_any_object(self):
         swaps = swaps_between(self.ONE, self.OTHER)
         self.assertEqual(swaps, ((),))
-        for thing in tuple(THINGS) + tuple(changed(swaps)) + (((), ()), ((), (), ()), [()], ((True,),), ((0,),), ((5,),)):
+        for thing in tuple(THINGS) + tuple(changed(swaps)) + (((), ()), ((), (), ()), [()], ((True,),), ((0,),),
+                ((5,),)):
             with self.subTest(thing=thing):
                 wanted = type(thing) is tuple and set(map(repr, thing)) <= {"()"} and len(thing) % 2 == 1
                 self.assertIs(call(self, shows_swaps, one=self.ONE, other=self.OTHER, thing=thing), wanted)
@@ -295,7 +296,8 @@ class ShowsSwapsTest(unittest.TestCase):
                 self.assertIs(shows_swaps(self.ONE, self.OTHER, swaps), wanted)
 
     def test_equal_readers(self):
-        for thing, wanted in (((), True), (((), ()), True), (((),), False), (None, False), ([], False), (((5,),), False)):
+        for thing, wanted in (((), True), (((), ()), True), (((),), False), (None, False), ([], False),
+                (((5,),), False)):
             self.assertIs(call(self, shows_swaps, one=self.ONE, other=self.ONE, thing=thing), wanted)
 
 
